@@ -1,0 +1,1 @@
+"""Shardask: one table over many houses, asked as if whole."""
