@@ -108,6 +108,10 @@ def questions_in(question):
     return list(question[1:3]) if question[0] == "join" else [question[1]]
 
 
+def with_questions(question, inner):
+    return question[:1] + tuple(inner) + question[1 + len(inner):]
+
+
 def own_size(question):
     return len(question[2]) if question[0] == "where" else 1
 

@@ -18,6 +18,11 @@ def is_whole(thing):
     return isinstance(thing, int) and not isinstance(thing, bool)
 
 
+def is_number_below(thing, many):
+    # Houses and acts are numbered from 0.
+    return is_whole(thing) and 0 <= thing < many
+
+
 def is_word(thing):
     if not isinstance(thing, str) or len(thing) > MOST_LETTERS:
         return False
@@ -55,6 +60,10 @@ def kind_of(value):
     return "number" if is_whole(value) else "word"
 
 
+def is_value_of(thing, kind):
+    return is_value(thing) and kind_of(thing) == kind
+
+
 def is_column(thing):
     if not isinstance(thing, tuple) or len(thing) != 2:
         return False
@@ -68,7 +77,7 @@ def is_head(thing):
 def is_row(head, thing):
     if not isinstance(thing, tuple) or len(thing) != len(head):
         return False
-    return all([is_value(value) and kind_of(value) == column[1] for value, column in zip(thing, head)])
+    return all([is_value_of(value, column[1]) for value, column in zip(thing, head)])
 
 
 def word_number(word):

@@ -16,6 +16,7 @@ METHODS = set("""append clear copy count endswith extend find get index insert i
     isupper items join keys ljust lower lstrip partition pop remove replace reverse rfind rjust rpartition rsplit rstrip
     setdefault split splitlines startswith strip update upper values zfill bit_length""".split())
 SPECIAL = {"__init__", "__eq__", "__repr__", "__str__", "__len__"}
+FREE_VALUES = set("count index title find get join lower upper split strip copy add".split())
 UNUSED = set("""register mro elements open input version_info with_traceback add_note attrgetter breakpoint builtins
     compile copyright credits delattr dir eval exec exit gc getattr globals hasattr help id importlib license locals
     methodcaller os quit setattr super vars sys""".split())
@@ -172,6 +173,18 @@ class LanguageTest(unittest.TestCase):
         for place, node in nodes(ast.Attribute):
             self.assertIn(node.attr, METHODS | own, place)
             self.assertNotIn(node.attr, UNUSED | {"format", "format_map"}, place)
+
+    def test_own_methods_and_values(self):
+        methods = [part.name for place, node in nodes(ast.ClassDef) for part in node.body
+                   if isinstance(part, ast.FunctionDef)]
+        values = {node.attr for place, node in nodes(ast.Attribute) if isinstance(node.ctx, ast.Store)}
+        self.assertEqual(values & set(methods), set())
+        taken = {name for kind in (str, int, list, tuple, dict, set, bytes) for name in dir(kind)} - SPECIAL
+        self.assertEqual(values & (taken - FREE_VALUES), set())
+        self.assertEqual(set(methods) & (taken - METHODS - {"add", "discard"}), set())
+        for place, node in nodes(ast.ClassDef):
+            own = [part.name for part in node.body if isinstance(part, ast.FunctionDef)]
+            self.assertEqual(len(own), len(set(own)), place)
 
     def test_is_stands_beside_none_true_and_false(self):
         for place, node in nodes(ast.Compare):
