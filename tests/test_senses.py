@@ -247,8 +247,8 @@ class QuestionsTest(SensesCase):
     def test_a_plan_s_questions(self):
         plan = [
             ("scan", "s"), ("where", 0, (TEST,)), ("keep", 1, ("a", "b")), ("scan", "oc"),
-            ("join", 2, 3, (("a", "d"),)), ("part", 4, ("e",), (COUNT,)), ("deal", 5, "e"), ("merge", 6), ("cut", 7, (("n", "down"),), 2),
-            ("bring", 8, 0), ("merge", 9), ("named", 10, ("u", "v"))]
+            ("join", 2, 3, (("a", "d"),)), ("part", 4, ("e",), (COUNT,)), ("deal", 5, "e"), ("merge", 6),
+            ("cut", 7, (("n", "down"),), 2), ("bring", 8, 0), ("merge", 9), ("named", 10, ("u", "v"))]
         kept = ("keep", ("where", ("table", "s"), (TEST,)), ("a", "b"))
         joined = ("join", kept, ("table", "oc"), (("a", "d"),))
         grouped = ("group", joined, ("e",), (COUNT,))
