@@ -1,6 +1,6 @@
 """The rows of a question by whole tables, and its answer."""
 
-from shardask.questions import head_of
+from shardask.questions import head_of, questions_in
 from shardask.values import names_of
 
 
@@ -91,24 +91,32 @@ def first_rows(head, rows, keys, many):
     return ordered(head, rows, keys)[:many]
 
 
-def rows_within(heads, tables, question):
+def rows_here(question, heads, rows):
+    # By the heads and the rows of the questions in it: of what they are is not looked at.
     sort = question[0]
-    if sort == "table":
-        return list(tables[question[1]])
-    head = head_of(heads, question[1])
-    rows = rows_within(heads, tables, question[1])
     if sort == "where":
-        return where_rows(head, rows, question[2])
+        return where_rows(heads[0], rows[0], question[2])
     if sort == "keep":
-        return keep_rows(head, rows, question[2])
+        return keep_rows(heads[0], rows[0], question[2])
     if sort == "named":
-        return rows
+        return rows[0]
     if sort == "group":
-        return group_rows(head, rows, question[2], question[3])
+        return group_rows(heads[0], rows[0], question[2], question[3])
     if sort == "first":
-        return first_rows(head, rows, question[2], question[3])
-    other_rows = rows_within(heads, tables, question[2])
-    return join_rows(head, rows, head_of(heads, question[2]), other_rows, question[3])
+        return first_rows(heads[0], rows[0], question[2], question[3])
+    return join_rows(heads[0], rows[0], heads[1], rows[1], question[3])
+
+
+def rows_within(heads, tables, question):
+    if question[0] == "table":
+        return tables[question[1]]
+    inner = questions_in(question)
+    rows = [rows_within(heads, tables, part) for part in inner]
+    return rows_here(question, [head_of(heads, part) for part in inner], rows)
+
+
+def in_answer_order(head, rows, question):
+    return ordered(head, rows, question[2] if question[0] == "first" else ())
 
 
 def rows_of(heads, tables, question):
@@ -118,5 +126,4 @@ def rows_of(heads, tables, question):
 
 def whole(heads, tables, question):
     head = head_of(heads, question)
-    keys = question[2] if question[0] == "first" else ()
-    return ordered(head, rows_within(heads, tables, question), keys)
+    return in_answer_order(head, rows_within(heads, tables, question), question)

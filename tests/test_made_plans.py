@@ -196,7 +196,7 @@ def made_placing(chance, head, houses):
 
 
 def made_town(chance):
-    houses = chance.randint(1, 4)
+    houses = chance.choice((1, 2, 2, 3, 3, 4, 5, 6))
     tables = made_tables(chance)
     return Town(houses, {name: (head, made_placing(chance, head, houses), tables[name])
                          for name, head in HEADS.items()})
