@@ -57,12 +57,25 @@ def need_town(houses, tables):
             raise BadTown(None)
 
 
-def span_house(cuts, value):
-    house = cuts[0][1]
-    for cut in cuts[1:]:
-        if cut[0] <= value:
-            house = cut[1]
-    return house
+def placed_tables(houses, tables):
+    need_town(houses, tables)
+    # The rows are lists of their own: those handed in may be changed later.
+    return dict([(name, (table[0], table[1], sorted(table[2]))) for name, table in tables.items()])
+
+
+def table_in(placed, name):
+    # What is no name may be no key of a dict either.
+    if not is_name(name) or name not in placed:
+        raise NoTable(None)
+    return placed[name]
+
+
+def cut_of(cuts, value):
+    number = 0
+    for place in range(1, len(cuts)):
+        if cuts[place][0] <= value:
+            number = place
+    return number
 
 
 def stands_at(head, placing, row, house, houses):
@@ -71,23 +84,20 @@ def stands_at(head, placing, row, house, houses):
     value = row[place_of(head, placing[1])]
     if placing[0] == "keys":
         return home(value, houses) == house
-    return span_house(placing[2], value) == house
+    cuts = placing[2]
+    return cuts[cut_of(cuts, value)][1] == house
+
+
+def rows_at(table, house, houses):
+    if not is_number_below(house, houses):
+        raise NoHouse(None)
+    return [row for row in table[2] if stands_at(table[0], table[1], row, house, houses)]
 
 
 class Town:
     def __init__(self, houses, tables):
-        need_town(houses, tables)
+        self.placed = placed_tables(houses, tables)
         self.house_count = houses
-        # The rows are the town's own list: the one handed in may be changed later.
-        self.placed = {}
-        for name, table in tables.items():
-            self.placed[name] = (table[0], table[1], sorted(table[2]))
-
-    def table_called(self, name):
-        # What is no name may be no key of a dict either.
-        if not is_name(name) or name not in self.placed:
-            raise NoTable(None)
-        return self.placed[name]
 
     def houses(self):
         return self.house_count
@@ -96,16 +106,13 @@ class Town:
         return dict([(name, table[0]) for name, table in self.placed.items()])
 
     def placing(self, name):
-        return self.table_called(name)[1]
+        return table_in(self.placed, name)[1]
 
     def whole(self, name):
-        return list(self.table_called(name)[2])
+        return list(table_in(self.placed, name)[2])
 
     def tables(self):
         return dict([(name, list(table[2])) for name, table in self.placed.items()])
 
     def part(self, name, house):
-        table = self.table_called(name)
-        if not is_number_below(house, self.house_count):
-            raise NoHouse(None)
-        return [row for row in table[2] if stands_at(table[0], table[1], row, house, self.house_count)]
+        return rows_at(table_in(self.placed, name), house, self.house_count)
